@@ -1,0 +1,1 @@
+"""A table of slots for messages that come again and again."""

@@ -1,0 +1,93 @@
+"""Messages, demands, and what is wrong with a table of beginnings."""
+
+NOT_PUT = -1
+
+FAULT_NOT_PUT = 1
+FAULT_COLLIDE = 2
+FAULT_DEMAND = 3
+
+
+class Message:
+    """What comes once in each of its periods; buses is 1 for bus 0, 2 for bus 1, 3 for both."""
+
+    def __init__(self, period, length, earliest, latest, buses):
+        self.period = period
+        self.length = length
+        self.earliest = earliest
+        self.latest = latest
+        self.buses = buses
+
+
+class Demand:
+    """What is asked between two messages, which are told by their numbers."""
+
+    def __init__(self, kind, first, second, gap):
+        self.kind = kind
+        self.first = first
+        self.second = second
+        self.gap = gap
+
+
+def common_divisor(one, other):
+    """The greatest common divisor of two whole numbers from 1 up."""
+    while other > 0:
+        rest = one % other
+        one = other
+        other = rest
+    return one
+
+
+def keep_apart(first, second, lead, gap):
+    """Whether the two are never on at once, nor does one begin within gap slots from the other's end on.
+
+    lead is the beginning of second less that of first. It alone matters: over all
+    rounds the beginnings differ by lead and every multiple of the common divisor.
+    """
+    divisor = common_divisor(first.period, second.period)
+    return first.length + gap <= lead % divisor and second.length + gap <= (-lead) % divisor
+
+
+def collide(first, second, lead):
+    """Whether the two share a bus and are on it at once at some time."""
+    return (first.buses & second.buses) != 0 and not keep_apart(first, second, lead, 0)
+
+
+def is_met(demand, messages, lead):
+    """Whether the demand is met where its second message begins lead slots behind its first."""
+    first = messages[demand.first]
+    second = messages[demand.second]
+    if demand.kind == 0:
+        return first.length + demand.gap <= lead
+    return keep_apart(first, second, lead, demand.gap)
+
+
+def both_put(table, one, other):
+    return table[one] != NOT_PUT and table[other] != NOT_PUT
+
+
+def missing_messages(table):
+    return [(FAULT_NOT_PUT, number, number) for number in range(len(table)) if table[number] == NOT_PUT]
+
+
+def colliding_pairs(messages, table):
+    pairs = []
+    for early in range(len(table)):
+        for late in range(early + 1, len(table)):
+            lead = table[late] - table[early]
+            if both_put(table, early, late) and collide(messages[early], messages[late], lead):
+                pairs.append((FAULT_COLLIDE, early, late))
+    return pairs
+
+
+def unmet_demands(messages, demands, table):
+    unmet = []
+    for place, demand in enumerate(demands):
+        lead = table[demand.second] - table[demand.first]
+        if both_put(table, demand.first, demand.second) and not is_met(demand, messages, lead):
+            unmet.append((FAULT_DEMAND, place, place))
+    return unmet
+
+
+def table_faults(messages, demands, table):
+    """All that is wrong with the table, each by its three numbers, in the order told."""
+    return missing_messages(table) + colliding_pairs(messages, table) + unmet_demands(messages, demands, table)
