@@ -22,9 +22,8 @@ BEGINNING_RANGES = ((0, 63),)
 BUDGET_RANGES = ((1, 20000),)
 
 
+# What the calls act on; while there are no messages the empty table counts as kept.
 class Desk:
-    """What the calls act on; while there are no messages the empty table counts as kept."""
-
     def __init__(self):
         self.messages = []
         self.demands = []
@@ -154,8 +153,8 @@ HANDLERS = (
 ARGUMENTS = (5, 4, 2, 1, 0, 1, 1, 1, 0)
 
 
+# Each call's answer, with how many numbers it has before it.
 def answer_calls(desk, calls):
-    """Each call's answer, with how many numbers it has before it."""
     given = []
     start = 0
     while start < len(calls):
@@ -169,6 +168,6 @@ def answer_calls(desk, calls):
     return given
 
 
+# The answers to the calls, which are made on a new desk.
 def answers(calls):
-    """The answers to the calls, which are made on a new desk."""
     return answer_calls(Desk(), calls)

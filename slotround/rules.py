@@ -7,9 +7,8 @@ FAULT_COLLIDE = 2
 FAULT_DEMAND = 3
 
 
+# What comes once in each of its periods; buses is 1 for bus 0, 2 for bus 1, 3 for both.
 class Message:
-    """What comes once in each of its periods; buses is 1 for bus 0, 2 for bus 1, 3 for both."""
-
     def __init__(self, period, length, earliest, latest, buses):
         self.period = period
         self.length = length
@@ -18,9 +17,8 @@ class Message:
         self.buses = buses
 
 
+# What is asked between two messages, which are told by their numbers.
 class Demand:
-    """What is asked between two messages, which are told by their numbers."""
-
     def __init__(self, kind, first, second, gap):
         self.kind = kind
         self.first = first
@@ -28,8 +26,8 @@ class Demand:
         self.gap = gap
 
 
+# The greatest common divisor of two whole numbers from 1 up.
 def common_divisor(one, other):
-    """The greatest common divisor of two whole numbers from 1 up."""
     while other > 0:
         rest = one % other
         one = other
@@ -37,23 +35,21 @@ def common_divisor(one, other):
     return one
 
 
+# Whether the two are never on at once, nor does one begin within gap slots from the other's end on.
+# lead is the beginning of second less that of first. It alone matters: over all
+# rounds the beginnings differ by lead and every multiple of the common divisor.
 def keep_apart(first, second, lead, gap):
-    """Whether the two are never on at once, nor does one begin within gap slots from the other's end on.
-
-    lead is the beginning of second less that of first. It alone matters: over all
-    rounds the beginnings differ by lead and every multiple of the common divisor.
-    """
     divisor = common_divisor(first.period, second.period)
     return first.length + gap <= lead % divisor and second.length + gap <= (-lead) % divisor
 
 
+# Whether the two share a bus and are on it at once at some time.
 def collide(first, second, lead):
-    """Whether the two share a bus and are on it at once at some time."""
     return (first.buses & second.buses) != 0 and not keep_apart(first, second, lead, 0)
 
 
+# Whether the demand is met where its second message begins lead slots behind its first.
 def is_met(demand, messages, lead):
-    """Whether the demand is met where its second message begins lead slots behind its first."""
     first = messages[demand.first]
     second = messages[demand.second]
     if demand.kind == 0:
@@ -88,6 +84,6 @@ def unmet_demands(messages, demands, table):
     return unmet
 
 
+# All that is wrong with the table, each by its three numbers, in the order told.
 def table_faults(messages, demands, table):
-    """All that is wrong with the table, each by its three numbers, in the order told."""
     return missing_messages(table) + colliding_pairs(messages, table) + unmet_demands(messages, demands, table)

@@ -6,8 +6,8 @@ from slotround.rules import collide, is_met
 LEAD_SHIFT = 63
 
 
+# The demands between two messages, whichever of them is named first.
 def demands_between(demands, one, other):
-    """The demands between two messages, whichever of them is named first."""
     found = []
     for demand in demands:
         if (demand.first, demand.second) in ((one, other), (other, one)):
@@ -15,8 +15,8 @@ def demands_between(demands, one, other):
     return found
 
 
+# Whether the message late may begin lead slots behind the message early.
 def lead_fits(messages, between, early, late, lead):
-    """Whether the message late may begin lead slots behind the message early."""
     if collide(messages[early], messages[late], lead):
         return False
     for demand in between:
@@ -26,8 +26,8 @@ def lead_fits(messages, between, early, late, lead):
     return True
 
 
+# The leads of late behind early that fit, as bits: the lead d is the bit d + LEAD_SHIFT.
 def pair_leads(messages, demands, early, late):
-    """The leads of late behind early that fit, as bits: the lead d is the bit d + LEAD_SHIFT."""
     between = demands_between(demands, early, late)
     least = messages[late].earliest - messages[early].latest
     greatest = messages[late].latest - messages[early].earliest
@@ -38,20 +38,17 @@ def pair_leads(messages, demands, early, late):
     return bits
 
 
+# Of each message, for each message before it, the leads that fit.
+# A walk asks the same few leads over and over, so they are worked out once ahead of it.
 def fitting_leads(messages, demands):
-    """Of each message, for each message before it, the leads that fit.
-
-    A walk asks the same few leads over and over, so they are worked out once ahead of it.
-    """
     rows = []
     for late in range(len(messages)):
         rows.append([pair_leads(messages, demands, early, late) for early in range(late)])
     return rows
 
 
+# A walk for the first size messages; leads is what fitting_leads tells of them.
 class Walk:
-    """A walk for the first size messages; leads is what fitting_leads tells of them."""
-
     def __init__(self, messages, leads, size, budget):
         self.messages = messages
         self.leads = leads
@@ -67,8 +64,8 @@ class Walk:
     def is_full(self):
         return len(self.chosen) == self.size
 
+    # Look at the earliest beginning of the message behind those chosen, if there is one.
     def enter_message(self):
-        """Look at the earliest beginning of the message behind those chosen, if there is one."""
         if self.is_full():
             return
         number = len(self.chosen)
@@ -80,15 +77,15 @@ class Walk:
             room = room & (self.leads[number][early] >> (LEAD_SHIFT - beginning))
         self.rooms[number] = room
 
+    # Drop the beginning chosen last and look at the one behind it; with none chosen the walk ends.
     def go_back(self):
-        """Drop the beginning chosen last and look at the one behind it; with none chosen the walk ends."""
         if len(self.chosen) == 0:
             self.ended = True
         else:
             self.looked = self.chosen.pop() + 1
 
+    # Use one of the budget; where all beginnings are chosen, that counts the table and goes on.
     def take_step(self):
-        """Use one of the budget; where all beginnings are chosen, that counts the table and goes on."""
         self.budget -= 1
         number = len(self.chosen)
         if number == self.size:
@@ -96,23 +93,23 @@ class Walk:
             self.go_back()
         elif self.looked > self.messages[number].latest:
             self.go_back()
-        elif (self.rooms[number] >> self.looked) & 1 == 1:
+        elif ((self.rooms[number] >> self.looked) & 1) == 1:
             self.chosen.append(self.looked)
             self.enter_message()
         else:
             self.looked += 1
 
 
+# Walk to the first table: it is full if one is found, ended if there is none, else spent.
 def search_table(messages, leads, size, budget):
-    """Walk to the first table: it is full if one is found, ended if there is none, else spent."""
     walk = Walk(messages, leads, size, budget)
     while not walk.is_full() and not walk.ended and walk.budget > 0:
         walk.take_step()
     return walk
 
 
+# Walk through all tables: ended if they are all counted, else spent.
 def count_tables(messages, leads, size, budget):
-    """Walk through all tables: ended if they are all counted, else spent."""
     walk = Walk(messages, leads, size, budget)
     while not walk.ended and walk.budget > 0:
         walk.take_step()
