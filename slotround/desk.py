@@ -1,6 +1,10 @@
 """The desk: takes the calls on one new set of messages, one behind another, and answers them."""
 
+from slotround.moves import move_order, room_of
 from slotround.rules import NOT_PUT, Demand, Message, table_faults
+from slotround.times import (
+    bus_load, longest_free_run, longest_wait, message_at, next_message, round_length, taken_slots,
+)
 from slotround.walk import count_tables, fitting_leads, search_table
 
 OUT_OF_RANGE = -1
@@ -11,15 +15,20 @@ NOTHING_PUT = -7
 FULL = -8
 UNLIKE_PERIODS = -9
 SPENT = -10
+NOT_GOOD = -11
+TOO_LONG = -12
 
 MOST_MESSAGES = 8
 MOST_DEMANDS = 16
+LONGEST_ROUND = 5000
 
 # The least and the greatest of each number of a call, in its order.
 MESSAGE_RANGES = ((1, 64), (1, 64), (0, 63), (0, 63), (1, 3))
 KIND_AND_GAP_RANGES = ((0, 1), (0, 64))
 BEGINNING_RANGES = ((0, 63),)
 BUDGET_RANGES = ((1, 20000),)
+BUS_RANGES = ((0, 1),)
+BUS_AND_TIME_RANGES = ((0, 1), (0, 1000000000000000000))
 
 
 # What the calls act on; while there are no messages the empty table counts as kept.
@@ -40,6 +49,14 @@ def in_ranges(numbers, ranges):
 
 def has_message(desk, number):
     return 0 <= number and number < len(desk.messages)
+
+
+def is_good(desk, table):
+    return len(table_faults(desk.messages, desk.demands, table)) == 0
+
+
+def as_row(numbers):
+    return [len(numbers)] + numbers
 
 
 def answer_message(desk, numbers):
@@ -110,7 +127,7 @@ def answer_search(desk, numbers):
     walk = search_table(desk.messages, leads, len(desk.messages), numbers[0])
     if walk.is_full():
         desk.table = list(walk.chosen)
-        return [len(walk.chosen)] + walk.chosen
+        return as_row(walk.chosen)
     return [NONE_THERE] if walk.ended else [SPENT]
 
 
@@ -138,6 +155,76 @@ def answer_keep(desk, numbers):
     return [0]
 
 
+def answer_steps(desk, numbers):
+    if desk.kept is None:
+        return [NOTHING_PUT]
+    if not is_good(desk, desk.kept) or not is_good(desk, desk.table):
+        return [NOT_GOOD]
+    order = move_order(desk.messages, desk.demands, desk.kept, desk.table)
+    return [NONE_THERE] if order is None else as_row(order)
+
+
+def answer_room(desk, numbers):
+    if not has_message(desk, numbers[0]):
+        return [NO_MESSAGE]
+    return as_row(room_of(desk.messages, desk.demands, desk.table, numbers[0]))
+
+
+def answer_at(desk, numbers):
+    if not in_ranges(numbers, BUS_AND_TIME_RANGES):
+        return [OUT_OF_RANGE]
+    number = message_at(desk.messages, desk.table, numbers[0], numbers[1])
+    return [0] if number is None else [1, number]
+
+
+def answer_next(desk, numbers):
+    if not in_ranges(numbers, BUS_AND_TIME_RANGES):
+        return [OUT_OF_RANGE]
+    coming = next_message(desk.messages, desk.table, numbers[0], numbers[1])
+    return [NONE_THERE] if coming is None else coming
+
+
+def answer_load(desk, numbers):
+    if not in_ranges(numbers, BUS_RANGES):
+        return [OUT_OF_RANGE]
+    return bus_load(desk.messages, numbers[0])
+
+
+def answer_free(desk, numbers):
+    if not in_ranges(numbers, BUS_RANGES):
+        return [OUT_OF_RANGE]
+    if round_length(desk.messages) > LONGEST_ROUND:
+        return [TOO_LONG]
+    taken = taken_slots(desk.messages, desk.table, numbers[0])
+    return [taken.count(False), len(taken), longest_free_run(taken)]
+
+
+def answer_wait(desk, numbers):
+    ending = numbers[0]
+    coming = numbers[1]
+    if not has_message(desk, ending) or not has_message(desk, coming):
+        return [NO_MESSAGE]
+    if desk.table[ending] == NOT_PUT or desk.table[coming] == NOT_PUT:
+        return [NOTHING_PUT]
+    lead = desk.table[coming] - desk.table[ending]
+    return [longest_wait(desk.messages[ending], desk.messages[coming], lead)]
+
+
+def answer_table(desk, numbers):
+    return as_row(desk.table)
+
+
+def answer_state(desk, numbers):
+    answer = [len(desk.messages)]
+    for message in desk.messages:
+        answer.extend([message.period, message.length, message.earliest, message.latest, message.buses])
+    answer.append(len(desk.demands))
+    for demand in desk.demands:
+        answer.extend([demand.kind, demand.first, demand.second, demand.gap])
+    kept = [] if desk.kept is None else desk.kept
+    return answer + as_row(desk.table) + as_row(kept)
+
+
 # By the place of a call: what answers it, and how many numbers it has behind its place.
 HANDLERS = (
     answer_message,
@@ -149,8 +236,17 @@ HANDLERS = (
     answer_count,
     answer_blame,
     answer_keep,
+    answer_steps,
+    answer_room,
+    answer_at,
+    answer_next,
+    answer_load,
+    answer_free,
+    answer_wait,
+    answer_table,
+    answer_state,
 )
-ARGUMENTS = (5, 4, 2, 1, 0, 1, 1, 1, 0)
+ARGUMENTS = (5, 4, 2, 1, 0, 1, 1, 1, 0, 0, 1, 2, 2, 1, 1, 2, 0, 0)
 
 
 # Each call's answer, with how many numbers it has before it.

@@ -26,7 +26,7 @@ class Demand:
         self.gap = gap
 
 
-# The greatest common divisor of two whole numbers from 1 up.
+# The greatest common divisor of two whole numbers, of which one may be 0.
 def common_divisor(one, other):
     while other > 0:
         rest = one % other
@@ -55,6 +55,26 @@ def is_met(demand, messages, lead):
     if demand.kind == 0:
         return first.length + demand.gap <= lead
     return keep_apart(first, second, lead, demand.gap)
+
+
+# The demands between two messages, whichever of them is named first.
+def demands_between(demands, one, other):
+    found = []
+    for demand in demands:
+        if (demand.first, demand.second) in ((one, other), (other, one)):
+            found.append(demand)
+    return found
+
+
+# Whether the message other may begin lead slots behind the message one; between is the demands between them.
+def lead_fits(messages, between, one, other, lead):
+    if collide(messages[one], messages[other], lead):
+        return False
+    for demand in between:
+        turned = lead if demand.first == one else -lead
+        if not is_met(demand, messages, turned):
+            return False
+    return True
 
 
 def both_put(table, one, other):

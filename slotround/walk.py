@@ -1,29 +1,9 @@
 """The walk through the beginnings, paid step by step from a budget, that search and count share."""
 
-from slotround.rules import collide, is_met
+from slotround.rules import demands_between, lead_fits
 
 # Two beginnings, each from 0 to 63, differ by at least -63; a bit's place can't be below 0.
 LEAD_SHIFT = 63
-
-
-# The demands between two messages, whichever of them is named first.
-def demands_between(demands, one, other):
-    found = []
-    for demand in demands:
-        if (demand.first, demand.second) in ((one, other), (other, one)):
-            found.append(demand)
-    return found
-
-
-# Whether the message late may begin lead slots behind the message early.
-def lead_fits(messages, between, early, late, lead):
-    if collide(messages[early], messages[late], lead):
-        return False
-    for demand in between:
-        turned = lead if demand.first == early else -lead
-        if not is_met(demand, messages, turned):
-            return False
-    return True
 
 
 # The leads of late behind early that fit, as bits: the lead d is the bit d + LEAD_SHIFT.

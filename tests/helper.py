@@ -3,6 +3,8 @@
 The model looks at times one by one where the program reckons with remainders.
 """
 
+from fractions import Fraction
+from itertools import permutations
 from math import lcm
 
 from slotround.desk import Desk, answer_calls, answers
@@ -10,6 +12,7 @@ from slotround.desk import Desk, answer_calls, answers
 BIG = 1000000000000000000
 
 MESSAGE, DEMAND, PUT, UNPUT, CHECK, SEARCH, COUNT, BLAME, KEEP = range(9)
+STEPS, ROOM, AT, NEXT, LOAD, FREE, WAIT, TABLE, STATE = range(9, 18)
 
 
 def flat(calls):
@@ -51,6 +54,10 @@ def snapshot(desk):
     demands = [(d.kind, d.first, d.second, d.gap) for d in desk.demands]
     kept = None if desk.kept is None else list(desk.kept)
     return messages, demands, list(desk.table), kept
+
+
+def as_row(numbers):
+    return [len(numbers), *numbers]
 
 
 class Slow:
@@ -169,3 +176,102 @@ class Slow:
             if how != "found":
                 return [-10] if how == "spent" else [n]
         return [0]
+
+    def steps(self, kept, table):
+        """The answer with the table kept, which is None if none is: all rows are tried, the smaller first."""
+        if kept is None:
+            return [-7]
+        if self.wrong(kept) or self.wrong(table):
+            return [-11]
+        moving = [m for m in range(len(table)) if kept[m] != table[m]]
+        for row in permutations(moving):
+            if self.all_good(kept, table, row):
+                return as_row(row)
+        return [-6]
+
+    def all_good(self, kept, table, row):
+        now = list(kept)
+        for m in row:
+            now[m] = table[m]
+            if self.wrong(now):
+                return False
+        return True
+
+    def room(self, table, m):
+        earliest, latest = self.messages[m][2:4]
+        return as_row([x for x in range(earliest, latest + 1) if self.fits(table, m, x)])
+
+    def fits(self, table, m, x):
+        now = list(table)
+        now[m] = x
+        for other in range(len(table)):
+            if other != m and now[other] != -1 and self.collide(m, x, other, now[other]):
+                return False
+        return all(self.met(d, now) for d in range(len(self.demands)) if m in self.demands[d][1:3])
+
+    def put_on(self, table, bus):
+        return [m for m in range(len(table)) if table[m] != -1 and self.messages[m][4] in ((1, 3), (2, 3))[bus]]
+
+    def begins(self, table, m, time):
+        return (time - table[m]) % self.messages[m][0] == 0
+
+    def all_at(self, table, bus, time):
+        """All that are on the bus at the time: they began then or less than their length before."""
+        return [
+            m for m in self.put_on(table, bus)
+            if any(self.begins(table, m, time - back) for back in range(self.messages[m][1]))
+        ]
+
+    def at(self, table, bus, time):
+        found = self.all_at(table, bus, time)
+        return [1, found[0]] if found else [0]
+
+    def next(self, table, bus, time):
+        numbers = self.put_on(table, bus)
+        if not numbers:
+            return [-6]
+        while True:
+            for m in numbers:
+                if self.begins(table, m, time):
+                    return [m, time]
+            time += 1
+
+    def load(self, bus):
+        going = [m for m in self.messages if m[4] in ((1, 3), (2, 3))[bus]]
+        share = sum((Fraction(m[1], m[0]) for m in going), Fraction(0))
+        return [share.numerator, share.denominator]
+
+    def round(self):
+        return lcm(*[m[0] for m in self.messages])
+
+    def free(self, table, bus):
+        around = self.round()
+        if around > 5000:
+            return [-12]
+        free = [not self.all_at(table, bus, time) for time in range(around)]
+        longest = 0
+        for start in range(around):
+            run = 0
+            while run < around and free[(start + run) % around]:
+                run += 1
+            longest = max(longest, run)
+            if longest == around:
+                break
+        return [sum(free), around, longest]
+
+    def wait(self, table, a, b):
+        if -1 in (table[a], table[b]):
+            return [-7]
+        longest = 0
+        period, length = self.messages[a][:2]
+        around = lcm(period, self.messages[b][0])
+        for end in range(table[a] + length, table[a] + length + around, period):
+            waited = 0
+            while not self.begins(table, b, end + waited):
+                waited += 1
+            longest = max(longest, waited)
+        return [longest]
+
+    def state(self, table, kept):
+        rows = [[len(self.messages)], *self.messages, [len(self.demands)], *self.demands]
+        return flat(rows) + as_row(table) + as_row(kept or [])

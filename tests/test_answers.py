@@ -3,7 +3,10 @@
 import unittest
 
 from slotround.desk import answers
-from tests.helper import BLAME, CHECK, COUNT, DEMAND, KEEP, MESSAGE, PUT, SEARCH, UNPUT, flat, split
+from tests.helper import (
+    AT, BIG, BLAME, CHECK, COUNT, DEMAND, FREE, KEEP, LOAD, MESSAGE, NEXT, PUT, ROOM, SEARCH, STATE, STEPS, TABLE,
+    UNPUT, WAIT, flat, split,
+)
 
 MIXED = [
     (CHECK,),
@@ -21,6 +24,21 @@ MIXED = [
     (COUNT, 20000),
     (BLAME, 20000),
     (SEARCH, 0),
+    (STEPS,),
+    (ROOM, 0),
+    (AT, 1, 14),
+    (AT, 0, BIG),
+    (NEXT, 0, BIG),
+    (LOAD, 0),
+    (FREE, 0),
+    (WAIT, 1, 1),
+    (WAIT, 0, 1),
+    (TABLE,),
+    (STATE,),
+    (PUT, 0, 0),
+    (KEEP,),
+    (PUT, 1, 7),
+    (STEPS,),
 ]
 MIXED_ANSWERS = [
     1, 0,
@@ -38,6 +56,21 @@ MIXED_ANSWERS = [
     1, 15,
     1, 0,
     1, -1,
+    1, -11,
+    2, 1, 0,
+    2, 1, 1,
+    1, 0,
+    2, 1, 1000000000000000003,
+    2, 1, 2,
+    3, 7, 10, 7,
+    1, 7,
+    1, -7,
+    3, 2, -1, 3,
+    22, 2, 10, 2, 0, 8, 1, 10, 3, 0, 7, 3, 1, 0, 0, 1, 1, 2, -1, 3, 2, 8, -1,
+    1, 0,
+    1, 0,
+    1, 0,
+    2, 1, 1,
 ]
 
 
@@ -68,6 +101,23 @@ class AnswersTest(unittest.TestCase):
     def test_two_times_one_after_another_answer_alike(self):
         self.assertEqual(answers(flat(MIXED)), answers(flat(MIXED)))
         self.assertEqual(answers([CHECK]), [1, 0])
+
+    def test_nothing_is_kept_from_one_time_to_the_next(self):
+        answers(flat(MIXED))
+        self.assertEqual(answers([STATE]), [4, 0, 0, 0, 0])
+        self.assertEqual(answers([STEPS]), [1, 0])
+        self.assertEqual(answers([MESSAGE, 4, 1, 0, 3, 1, STEPS]), [1, 0, 1, -7])
+
+    def test_each_call_alone_on_a_new_desk(self):
+        for call, given in (
+            ((MESSAGE, 4, 1, 0, 3, 1), [1, 0]), ((DEMAND, 0, 0, 1, 0), [1, -4]), ((PUT, 0, 0), [1, -4]),
+            ((UNPUT, 0), [1, -4]), ((CHECK,), [1, 0]), ((SEARCH, 1), [1, 0]), ((COUNT, 1), [1, 1]),
+            ((BLAME, 1), [1, 0]), ((KEEP,), [1, 0]), ((STEPS,), [1, 0]), ((ROOM, 0), [1, -4]), ((AT, 0, 0), [1, 0]),
+            ((NEXT, 0, 0), [1, -6]), ((LOAD, 0), [2, 0, 1]), ((FREE, 0), [3, 1, 1, 1]), ((WAIT, 0, 0), [1, -4]),
+            ((TABLE,), [1, 0]), ((STATE,), [4, 0, 0, 0, 0]),
+        ):
+            with self.subTest(call=call):
+                self.assertEqual(answers(list(call)), given)
 
     def test_what_is_given_back_is_new_each_time(self):
         given = answers(flat(MIXED))

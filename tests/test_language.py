@@ -107,3 +107,20 @@ class LanguageTest(unittest.TestCase):
         for where, node in self.each_node():
             if isinstance(node, ast.Call) and isinstance(node.func, ast.Attribute):
                 self.assertIn(node.func.attr, METHODS_IN | own, where)
+
+    def test_values_of_objects_are_not_called_like_python_s_own(self):
+        own = set()
+        for value in ("", 0, [], {}, set(), b""):
+            own.update(name for name in dir(value))
+        for where, node in self.each_node():
+            if isinstance(node, ast.Attribute) and isinstance(node.ctx, ast.Store):
+                self.assertNotIn(node.attr, own, where)
+
+    def test_names_of_a_file_s_top_are_not_locals_too(self):
+        for name, text in self.each_file():
+            tree = ast.parse(text)
+            imported = {part.name for node in tree.body if isinstance(node, ast.ImportFrom) for part in node.names}
+            classes = {node.name for node in tree.body if isinstance(node, ast.ClassDef)}
+            bound = {node.arg for node in ast.walk(tree) if isinstance(node, ast.arg)}
+            bound |= {node.id for node in ast.walk(tree) if isinstance(node, ast.Name) and isinstance(node.ctx, ast.Store)}
+            self.assertEqual(bound & (imported | classes), set(), name)
